@@ -1,0 +1,1 @@
+"""Fallingback: hands that keep points, and how far all go back when one falls."""
