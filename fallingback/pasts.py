@@ -1,6 +1,6 @@
 """Pasts: names, rows of deeds, and what is told of their points, parts and letters."""
 
-from fallingback.errors import NoLetter, NoPast, NoPoint
+from fallingback.errors import NoHand, NoHands, NoLetter, NoPast, NoPoint
 
 LONGEST_NAME = 8
 MOST_HANDS = 40
@@ -73,13 +73,38 @@ def check_point(past, thing):
         raise NoPoint("this is no point of the past")
 
 
+def check_hand(past, thing):
+    """Refuses what is no hand of the past."""
+    if not is_hand(past, thing):
+        raise NoHand("this is no hand of the past")
+
+
+def check_hands(past, thing):
+    """Refuses what is no list of one or more unlike hands of the past."""
+    if not are_unlike_names(thing) or not all([hand in past for hand in thing]):
+        raise NoHands("these are no unlike hands of the past")
+
+
+def are_unlike_names(thing):
+    """Whether the thing is a list of one to forty unlike names."""
+    if not isinstance(thing, list) or not 1 <= len(thing) <= MOST_HANDS:
+        return False
+    return all([is_name(hand) for hand in thing]) and len(set(thing)) == len(thing)
+
+
+def is_hand(past, thing):
+    """Whether the thing is a hand of the past."""
+    # The kind is asked first: a thing of another kind may have no place in a dict.
+    return is_name(thing) and thing in past
+
+
 def is_point(past, thing):
     """Whether the thing is a point of the past: its hand, and a number up to its present's."""
     if not isinstance(thing, tuple) or len(thing) != 2:
         return False
     hand, number = thing
-    # The kinds are asked first: a thing of another kind may have no place in a dict or an order.
-    if not is_name(hand) or hand not in past or not is_whole(number):
+    # The kinds are asked first: a thing of another kind may have no place in an order.
+    if not is_hand(past, hand) or not is_whole(number):
         return False
     return 0 <= number <= present_of(past, hand)
 
@@ -87,6 +112,24 @@ def is_point(past, thing):
 def present_of(past, hand):
     """The number of the hand's present: one more than its keepings."""
     return len([deed for deed in past[hand] if deed[0] == "keep"]) + 1
+
+
+def row_ahead(row, number):
+    """The deeds of the row ahead of its point of that number; a keeping that is the point is the last one."""
+    ahead = []
+    part = 0
+    for deed in row:
+        if part < number:
+            ahead.append(deed)
+        # A keeping ends a part, and so stands in it.
+        if deed[0] == "keep":
+            part += 1
+    return ahead
+
+
+def hearers_of(past):
+    """The hand to which each letter was told, whether it heard it or not."""
+    return {deed[1]: deed[2] for hand in past for deed in past[hand] if deed[0] == "tell"}
 
 
 def tellings(past):
@@ -147,7 +190,7 @@ def _is_letter(thing):
 
 def _is_other(past, hand, thing):
     """Whether the thing is a hand of the past other than this one."""
-    return is_name(thing) and thing in past and thing != hand
+    return is_hand(past, thing) and thing != hand
 
 
 def _told_once(past):
@@ -158,7 +201,7 @@ def _told_once(past):
 
 def _heard_once(past):
     """Whether each letter that is heard is heard once, by the hand to which it was told."""
-    hearers = {deed[1]: deed[2] for hand in past for deed in past[hand] if deed[0] == "tell"}
+    hearers = hearers_of(past)
     for hand in past:
         for deed in past[hand]:
             # Taken out when heard: of a second hearing none is left.

@@ -6,6 +6,17 @@ from fallingback.pasts import check_past, check_point, hearings, is_whole, telli
 def is_zigzag(past, one, other, thing):
     """Whether the thing is a zigzag from the point one to the point other."""
     _check_ends(past, one, other)
+    return leads(past, one, other, thing)
+
+
+def zigzag_between(past, one, other):
+    """A zigzag of the fewest letters from the point one to the point other, or None."""
+    _check_ends(past, one, other)
+    return fewest_letters(past, one, other)
+
+
+def leads(past, one, other, thing):
+    """Whether the thing is a zigzag, of what is known to be a past and points of it."""
     if not isinstance(thing, list) or not thing:
         return False
     told = tellings(past)
@@ -19,9 +30,8 @@ def is_zigzag(past, one, other, thing):
     return _arrives(place, other)
 
 
-def zigzag_between(past, one, other):
-    """A zigzag of the fewest letters from the point one to the point other, or None."""
-    _check_ends(past, one, other)
+def fewest_letters(past, one, other):
+    """A zigzag of the fewest letters, or None, of what is known to be a past and points of it."""
     told = tellings(past)
     heard = hearings(past)
     ahead = {}

@@ -1,6 +1,7 @@
 """What several tests share: things of any kind, pasts, and slow answers straight from the words."""
 
 import copy
+import itertools
 import random
 
 from fallingback.errors import FallError
@@ -43,6 +44,106 @@ PAST = {
     "di": [],
     "bo": [("hear", 0), ("tell", 3, "cy"), ("keep",), ("hear", 5)],
 }
+
+
+# What lacks little to be a past.
+BROKEN = [
+    {}, {"an": ()}, {"an": [("hear", 0)]}, {"an": [("tell", 0, "an")]}, {"an": [["keep"]]}, {"An": []},
+    {"an": [("tell", True, "bo")], "bo": []}, {"an": [], "An": []},
+    {"an": [("hear", 1), ("tell", 0, "bo")], "bo": [("hear", 0), ("tell", 1, "an")]},
+]
+
+
+def whereabouts(past):
+    """Of each letter where it was told, and of each heard one where it was heard: the parts."""
+    told, heard = {}, {}
+    for hand, row in past.items():
+        for at, deed in enumerate(row):
+            if deed[0] == "tell":
+                told[deed[1]] = (hand, row[:at].count(("keep",)))
+            if deed[0] == "hear":
+                heard[deed[1]] = (hand, row[:at].count(("keep",)))
+    return told, heard
+
+
+def slowly_a_zigzag(past, one, other, letters):
+    """Whether the letters are a zigzag: the words of [9], one by one."""
+    told, heard = whereabouts(past)
+    if not letters or any(letter not in heard for letter in letters):
+        return False
+    first, last = told[letters[0]], heard[letters[-1]]
+    if first[0] != one[0] or first[1] < one[1] or last[0] != other[0] or last[1] >= other[1]:
+        return False
+    return all(told[after][0] == heard[ahead][0] and told[after][1] >= heard[ahead][1]
+               for ahead, after in zip(letters, letters[1:]))
+
+
+def slowly_a_line(past, line):
+    """Whether a dict of points of all hands is a line: the words of [11]."""
+    told, heard = whereabouts(past)
+    return not any(heard[letter][1] < line[heard[letter][0]] and told[letter][1] >= line[told[letter][0]]
+                   for letter in heard)
+
+
+def last_points(past):
+    """The number of each hand's present."""
+    return {hand: row.count(("keep",)) + 1 for hand, row in past.items()}
+
+
+def slowly_all_lines(past):
+    """All lines of a small past, in the order of their numbers by hands' names."""
+    hands = sorted(past)
+    found = []
+    for numbers in itertools.product(*[range(last_points(past)[hand] + 1) for hand in hands]):
+        line = dict(zip(hands, numbers))
+        if slowly_a_line(past, line):
+            found.append(line)
+    return found
+
+
+def slowly_left(past, fallen, lines=None):
+    """The line of the fall: the latest of all lines in which none of the fallen is at its present."""
+    ends = last_points(past)
+    fit = [line for line in lines or slowly_all_lines(past) if all(line[hand] < ends[hand] for hand in fallen)]
+    latest = {hand: max(line[hand] for line in fit) for hand in past}
+    assert latest in fit
+    return latest
+
+
+def stepwise_left(past, fallen):
+    """The line of the fall in a past of any size: all go back step by step, until nothing is heard untold."""
+    told, heard = whereabouts(past)
+    line = {hand: end - (hand in fallen) for hand, end in last_points(past).items()}
+    back = True
+    while back:
+        back = False
+        for letter, (hearer, part) in heard.items():
+            teller, where = told[letter]
+            if where >= line[teller] and part < line[hearer]:
+                line[hearer] = part
+                back = True
+    return line
+
+
+def slowly_row_left(row, number):
+    """What the row keeps ahead of its point: by the place of its keeping."""
+    ends = [0] + [at + 1 for at, deed in enumerate(row) if deed == ("keep",)] + [len(row)]
+    return row[:ends[number]]
+
+
+def some_hands(hands):
+    """All lists of one or more of the hands, in one order each."""
+    return [list(some) for many in range(1, len(hands) + 1) for some in itertools.combinations(sorted(hands), many)]
+
+
+def dicts_and_lists(thing):
+    """All dicts and lists within the thing, itself too, as often as they stand there."""
+    if isinstance(thing, dict):
+        return [thing] + [part for within in thing.values() for part in dicts_and_lists(within)]
+    if isinstance(thing, (list, tuple)):
+        own = [thing] if isinstance(thing, list) else []
+        return own + [part for within in thing for part in dicts_and_lists(within)]
+    return []
 
 
 def points_of(past):
@@ -93,6 +194,29 @@ def grown(past, hand, deed):
     return more
 
 
+def chance_moves(net, seed, hands, moves, falls=0.1):
+    """Moves of chance for the net, the same for the same seed: each told is to be done before the next is asked."""
+    chance = random.Random(seed)
+    for _ in range(moves):
+        move = chance.random()
+        lying = net.lying()
+        if move < falls:
+            yield "fall", [chance.sample(hands, chance.choice([1, 1, min(2, len(hands))]))]
+        elif move < 0.3 or len(hands) == 1:
+            yield "keep", [chance.choice(hands)]
+        elif lying and move < 0.65:
+            yield "hear", [chance.choice(lying)]
+        else:
+            yield "tell", chance.sample(hands, 2)
+
+
+def done_by_chance(net, seed, hands, moves, falls=0.1):
+    """The net, behind so many moves of chance."""
+    for word, args in chance_moves(net, seed, hands, moves, falls):
+        getattr(net, word)(*args)
+    return net
+
+
 def big_past(seed, hands, deeds):
     """A past of many deeds, the same one for the same seed."""
     chance = random.Random(seed)
@@ -134,3 +258,9 @@ def staircase(hands, levels):
             past[name].append(("keep",))
     way = [level * hands + at for level in range(levels)[::-1] for at in range(hands)][:-1]
     return past, (names[0], levels - 1), (names[-1], 1), way
+
+
+def small_pasts():
+    """Small pasts: all of a few moves, some of a few more, and some of chance in which zigzags lead back."""
+    return (histories(["an", "bo"], 4) + histories(["an", "bo"], 6)[::19] + histories(["an", "bo", "cy"], 3)
+            + histories(["an", "bo", "cy"], 4)[::23] + [big_past(seed, 2 + seed % 3, 16 + seed % 16) for seed in range(60)])

@@ -14,6 +14,22 @@ INTERFACE = {
         "told_in": ["past", "letter"], "heard_in": ["past", "letter"], "letters_lying": ["past"],
     },
     "zigzags": {"is_zigzag": ["past", "one", "other", "thing"], "zigzag_between": ["past", "one", "other"]},
+    "lines": {
+        "is_line": ["past", "thing"], "lines_with": ["past", "points"], "earlier_of": ["past", "line", "other"],
+        "later_of": ["past", "line", "other"], "lines_between": ["past", "line", "other"],
+    },
+    "falls": {
+        "fall_line": ["past", "hands"], "deeds_lost": ["past", "hands"], "letters_after": ["past", "hands"],
+        "why_back": ["past", "hands", "hand"], "is_why": ["past", "hands", "hand", "thing"],
+    },
+    "needed": {
+        "useless_points": ["past"], "needed_points": ["past"], "needed_by": ["past", "point"], "thinned_past": ["past"],
+    },
+    "nets": {"Net": ["hands", "wary"]},
+}
+
+METHODS = {
+    "Net": {"tell": ["one", "other"], "keep": ["hand"], "hear": ["letter"], "fall": ["hands"], "past": [], "lying": []},
 }
 
 
@@ -31,6 +47,14 @@ class InterfaceTest(unittest.TestCase):
                     function = getattr(held, name)
                     self.assertEqual(function.__module__, "fallingback." + module)
                     self.assertEqual(list(inspect.signature(function).parameters), arguments)
+
+    def test_each_method_is_defined_in_its_class_with_its_arguments(self):
+        for name, methods in METHODS.items():
+            module = [module for module, held in INTERFACE.items() if name in held][0]
+            held = vars(getattr(importlib.import_module("fallingback." + module), name))
+            for method, arguments in methods.items():
+                with self.subTest(name, method=method):
+                    self.assertEqual(list(inspect.signature(held[method]).parameters), ["self"] + arguments)
 
 
 class FormTest(unittest.TestCase):

@@ -5,13 +5,7 @@ import unittest
 
 from fallingback.errors import NoLetter, NoPast
 from fallingback.pasts import heard_in, letters_lying, order_of, presents, told_in
-from support import PAST, big_past, histories, raised, refilled, staircase, things
-
-BROKEN = [
-    {}, {"an": ()}, {"an": [("hear", 0)]}, {"an": [("tell", 0, "an")]}, {"an": [["keep"]]}, {"An": []},
-    {"an": [("tell", True, "bo")], "bo": []},
-    {"an": [("hear", 1), ("tell", 0, "bo")], "bo": [("hear", 0), ("tell", 1, "an")]},
-]
+from support import BROKEN, PAST, big_past, histories, raised, refilled, staircase, things
 
 
 def done_in_order(past, order):

@@ -6,9 +6,8 @@ import unittest
 
 from fallingback.errors import NoPast, NoPoint
 from fallingback.zigzags import is_zigzag, zigzag_between
-from support import PAST, NoEqual, big_past, histories, points_of, raised, refilled, staircase, things
-
-BROKEN = [{}, {"an": ()}, {"an": [("hear", 0)]}, {"an": [("tell", 0, "an")]}, {"an": [], "An": []}]
+from support import (BROKEN, PAST, NoEqual, big_past, histories, points_of, raised, refilled, slowly_a_zigzag, staircase,
+                     things, whereabouts)
 
 # bo tells 1 to cy ahead of hearing 0 from an, all in one part: no word comes from an to cy, a zigzag does.
 EARLIER = {
@@ -22,30 +21,6 @@ ONE = {
     "an": [("keep",), ("keep",), ("tell", 0, "bo"), ("keep",)],
     "bo": [("keep",), ("hear", 0), ("keep",), ("keep",)],
 }
-
-
-def whereabouts(past):
-    """Of each letter where it was told, and of each heard one where it was heard: the parts."""
-    told, heard = {}, {}
-    for hand, row in past.items():
-        for at, deed in enumerate(row):
-            if deed[0] == "tell":
-                told[deed[1]] = (hand, row[:at].count(("keep",)))
-            if deed[0] == "hear":
-                heard[deed[1]] = (hand, row[:at].count(("keep",)))
-    return told, heard
-
-
-def slowly_a_zigzag(past, one, other, letters):
-    """Whether the letters are a zigzag: the words of [9], one by one."""
-    told, heard = whereabouts(past)
-    if not letters or any(letter not in heard for letter in letters):
-        return False
-    first, last = told[letters[0]], heard[letters[-1]]
-    if first[0] != one[0] or first[1] < one[1] or last[0] != other[0] or last[1] >= other[1]:
-        return False
-    return all(told[after][0] == heard[ahead][0] and told[after][1] >= heard[ahead][1]
-               for ahead, after in zip(letters, letters[1:]))
 
 
 def slowly_fewest(past, one, other):
