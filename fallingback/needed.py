@@ -3,7 +3,7 @@
 from fallingback.errors import NoPoint
 from fallingback.falls import line_left
 from fallingback.lines import beginnings_of, least_line
-from fallingback.pasts import check_past, is_point, present_of
+from fallingback.pasts import check_past, is_kept_point, present_of
 
 
 def useless_points(past):
@@ -22,7 +22,7 @@ def needed_points(past):
 def needed_by(past, point):
     """The hands of whose fall alone the line has the kept point, rising."""
     check_past(past)
-    if not is_point(past, point) or point[1] == present_of(past, point[0]):
+    if not is_kept_point(past, point):
         raise NoPoint("this is no kept point of the past")
     return _hands_needing(past)[point]
 

@@ -3,6 +3,7 @@
 from fallingback.errors import Alike, NoHands, NoLetter
 from fallingback.falls import fall_line
 from fallingback.pasts import are_unlike_names, check_hand, hearers_of, hearings, is_whole, present_of, row_ahead
+from fallingback.warily import told_since_point
 
 
 class Net:
@@ -34,7 +35,7 @@ class Net:
         if not is_whole(letter) or letter not in hearers:
             raise NoLetter("this letter does not lie")
         hand = hearers[letter]
-        if self._wary and _told_since_point(self._rows[hand]):
+        if self._wary and told_since_point(self._rows[hand]):
             self.keep(hand)
         self._rows[hand].append(("hear", letter))
 
@@ -64,14 +65,3 @@ class Net:
         heard = hearings(self._rows)
         hearers = hearers_of(self._rows)
         return {letter: hearers[letter] for letter in hearers if letter not in heard}
-
-
-def _told_since_point(row):
-    """Whether the row's hand has told a letter since its last point."""
-    told = False
-    for deed in row:
-        if deed[0] == "keep":
-            told = False
-        elif deed[0] == "tell":
-            told = True
-    return told

@@ -109,6 +109,11 @@ def is_point(past, thing):
     return 0 <= number <= present_of(past, hand)
 
 
+def is_kept_point(past, thing):
+    """Whether the thing is a kept point of the past: a point, and not its hand's present."""
+    return is_point(past, thing) and thing[1] < present_of(past, thing[0])
+
+
 def present_of(past, hand):
     """The number of the hand's present: one more than its keepings."""
     return len([deed for deed in past[hand] if deed[0] == "keep"]) + 1

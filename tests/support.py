@@ -5,6 +5,7 @@ import itertools
 import random
 
 from fallingback.errors import FallError
+from fallingback.nets import Net
 
 
 class NoEqual:
@@ -52,6 +53,16 @@ BROKEN = [
     {"an": [("tell", True, "bo")], "bo": []}, {"an": [], "An": []},
     {"an": [("hear", 1), ("tell", 0, "bo")], "bo": [("hear", 0), ("tell", 1, "an")]},
 ]
+
+
+# What is no point of PAST.
+NO_POINTS = [("an", -1), ("an", 4), ("an", 10 ** 30), ("bo", 3), ("cy", 2), ("di", 2), ("ed", 0), ("", 0), ("an",), ("an", 0, 0),
+             ["an", 0], ("an", True), ("an", False), ("an", 0.0), ("an", 1.0), ("an", "0"), ("an", None), (0, "an"), {"an": 0},
+             (b"an", 0), (["an"], 0), ("an", [0]), (("an",), 0), (NoEqual(), 0), ("an", NoEqual()), "an", "an=0", "a0", {"an", 0}]
+
+
+# The presents of PAST.
+PRESENTS = [("an", 3), ("bo", 2), ("cy", 1), ("di", 1)]
 
 
 def whereabouts(past):
@@ -131,6 +142,30 @@ def slowly_row_left(row, number):
     return row[:ends[number]]
 
 
+def slowly_wary(past):
+    """Whether in each part all hearings stand ahead of all tellings: part by part."""
+    for row in past.values():
+        words = " ".join(deed[0] for deed in row)
+        for part in words.split("keep"):
+            if "tell" in part and "hear" in part[part.index("tell"):]:
+                return False
+    return True
+
+
+def slowly_heard_of(past, point):
+    """The deeds that the point has heard of, as hands and places in their rows: the words of [21], one by one."""
+    hand, number = point
+    tellings = {deed[1]: (teller, at) for teller, row in past.items() for at, deed in enumerate(row) if deed[0] == "tell"}
+    heard_of = {(hand, at) for at in range(len(slowly_row_left(past[hand], number)))}
+    more = True
+    while more:
+        letters = [past[one][at][1] for one, at in heard_of if past[one][at][0] == "hear"]
+        found = {(teller, at) for teller, end in [tellings[letter] for letter in letters] for at in range(end + 1)}
+        more = not found <= heard_of
+        heard_of |= found
+    return heard_of
+
+
 def some_hands(hands):
     """All lists of one or more of the hands, in one order each."""
     return [list(some) for many in range(1, len(hands) + 1) for some in itertools.combinations(sorted(hands), many)]
@@ -144,6 +179,15 @@ def dicts_and_lists(thing):
         own = [thing] if isinstance(thing, list) else []
         return own + [part for within in thing for part in dicts_and_lists(within)]
     return []
+
+
+def wary_pasts():
+    """Pasts of wary nets that have lived, falls among it."""
+    found = []
+    for seed in range(90):
+        hands = ["bo", "an", "di", "cy"][:1 + seed % 4]
+        found.append(done_by_chance(Net(hands, wary=True), seed, hands, 6 + seed % 40, falls=0.04).past())
+    return found
 
 
 def points_of(past):

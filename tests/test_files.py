@@ -26,10 +26,15 @@ INTERFACE = {
         "useless_points": ["past"], "needed_points": ["past"], "needed_by": ["past", "point"], "thinned_past": ["past"],
     },
     "nets": {"Net": ["hands", "wary"]},
+    "safe": {"safe_line": ["past"], "must_keep": ["past", "part"]},
+    "warily": {"is_wary": ["past"], "numbers_of": ["past", "point"]},
+    "texts": {"show_past": ["past"], "show_line": ["line"], "read_past": ["text"], "read_line": ["text"]},
+    "desk": {"Desk": []},
 }
 
 METHODS = {
     "Net": {"tell": ["one", "other"], "keep": ["hand"], "hear": ["letter"], "fall": ["hands"], "past": [], "lying": []},
+    "Desk": {"say": ["row"]},
 }
 
 

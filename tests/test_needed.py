@@ -7,8 +7,9 @@ from fallingback.errors import NoPast, NoPoint
 from fallingback.needed import needed_by, needed_points, thinned_past, useless_points
 from fallingback.nets import Net
 from fallingback.pasts import is_past
-from support import (BROKEN, PAST, NoEqual, big_past, dicts_and_lists, done_by_chance, last_points, points_of, raised,
-                     refilled, slowly_all_lines, slowly_left, small_pasts, staircase, stepwise_left, things)
+from support import (BROKEN, NO_POINTS, PAST, PRESENTS, NoEqual, big_past, dicts_and_lists, done_by_chance, last_points,
+                     points_of, raised, refilled, slowly_all_lines, slowly_left, small_pasts, staircase, stepwise_left,
+                     things)
 
 KEEP = ("keep",)
 
@@ -110,10 +111,7 @@ class NeededTest(unittest.TestCase):
                 self.assertEqual(needed_by(past, point), due[point])
 
     def test_what_is_no_kept_point(self):
-        bad = [("an", 3), ("bo", 2), ("cy", 1), ("di", 1), ("an", -1), ("an", 4), ("an", 10 ** 30), ("ed", 0), ("", 0), ("an",),
-               ("an", 0, 0), ["an", 0], ("an", True), ("an", False), ("an", 0.0), ("an", 1.0), ("an", "0"), ("an", None),
-               (0, "an"), {"an": 0}, (b"an", 0), (["an"], 0), ("an", [0]), (("an",), 0), (NoEqual(), 0), ("an", NoEqual()), "an"]
-        for thing in things() + bad:
+        for thing in things() + NO_POINTS + PRESENTS:
             with self.subTest(ascii(thing)):
                 self.assertIs(raised(needed_by, PAST, thing), NoPoint)
         for point in kept_of(PAST):

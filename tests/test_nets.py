@@ -10,8 +10,8 @@ from fallingback.falls import deeds_lost, fall_line, letters_after
 from fallingback.needed import useless_points
 from fallingback.nets import Net
 from fallingback.pasts import is_past, letters_lying, presents
-from support import (NoEqual, chance_moves, dicts_and_lists, done_by_chance, last_points, raised, slowly_row_left, some_hands,
-                     stepwise_left, things)
+from support import (NoEqual, chance_moves, dicts_and_lists, done_by_chance, last_points, raised, slowly_row_left, slowly_wary,
+                     some_hands, stepwise_left, things)
 
 KEEP = ("keep",)
 
@@ -19,16 +19,6 @@ KEEP = ("keep",)
 def state(net):
     """All that is told of a net that no deed is done on."""
     return net.past(), net.lying()
-
-
-def slowly_wary(past):
-    """Whether in each part all hearings stand ahead of all tellings: part by part."""
-    for row in past.values():
-        words = " ".join(deed[0] for deed in row)
-        for part in words.split("keep"):
-            if "tell" in part and "hear" in part[part.index("tell"):]:
-                return False
-    return True
 
 
 class SlowNet:

@@ -1,4 +1,4 @@
-"""The whole: lines and zigzags, falls and lines, points that are needed [4]."""
+"""The whole: lines and zigzags, falls and lines, what is needed, what is safe, and who keeps warily [4]."""
 
 import copy
 import itertools
@@ -9,8 +9,11 @@ from fallingback.falls import fall_line
 from fallingback.lines import is_line, lines_with
 from fallingback.needed import needed_by, needed_points, thinned_past
 from fallingback.nets import Net
+from fallingback.safe import must_keep, safe_line
+from fallingback.warily import is_wary, numbers_of
 from fallingback.zigzags import zigzag_between
-from support import big_past, done_by_chance, last_points, points_of, slowly_row_left, small_pasts, some_hands
+from support import (big_past, done_by_chance, last_points, points_of, slowly_heard_of, slowly_left, slowly_row_left,
+                     small_pasts, some_hands, stepwise_left, wary_pasts)
 
 KEEP = ("keep",)
 
@@ -158,6 +161,97 @@ class NeededTest(unittest.TestCase):
                 line = grown.go_on(chance)
                 for hand in line:
                     self.assertTrue(line[hand] > 0 or (hand, 0) in grown.needed, ascii((grown.past, line)))
+
+
+def deeds_ahead(past, line):
+    """The deeds ahead of the line's points."""
+    return {hand: slowly_row_left(row, line[hand]) for hand, row in past.items()}
+
+
+def comings(past, moves):
+    """All pasts that come from this one by so many moves, falls of any hands among them."""
+    if moves == 0:
+        return [past]
+    told = {deed[1]: deed[2] for row in past.values() for deed in row if deed[0] == "tell"}
+    heard = [deed[1] for row in past.values() for deed in row if deed[0] == "hear"]
+    deeds = [(hand, KEEP) for hand in past] + [(told[letter], ("hear", letter)) for letter in told if letter not in heard]
+    deeds += [(one, ("tell", 1000 + moves, other)) for one in past for other in past if one != other]
+    found = [{**past, hand: past[hand] + [deed]} for hand, deed in deeds]
+    found += [deeds_ahead(past, stepwise_left(past, fallen)) for fallen in some_hands(past)]
+    return [coming for next_one in found for coming in comings(next_one, moves - 1)]
+
+
+class SafeTest(unittest.TestCase):
+    def test_what_is_safe_is_never_lost_whatever_comes(self):
+        counted = 0
+        for past in [past for past in small_pasts() if len(past) < 4 and sum(map(len, past.values())) < 12][::41]:
+            safe = deeds_ahead(past, safe_line(past))
+            for coming in comings(past, 3 if len(past) < 3 else 2):
+                self.assertTrue(all(coming[hand][:len(safe[hand])] == safe[hand] for hand in past), ascii((past, coming)))
+                counted += any(safe.values())
+        self.assertGreater(counted, 5000)
+
+    def test_it_is_never_lost_in_long_lives(self):
+        counted = 0
+        for seed in range(200):
+            chance = random.Random(seed)
+            hands = ["an", "bo", "cy", "di"][:2 + seed % 3]
+            grown = Grown(done_by_chance(Net(hands), seed, hands, 10 + seed % 30, falls=0.05).past())
+            for _ in range(25):
+                safe = deeds_ahead(grown.past, safe_line(grown.past))
+                grown.go_on(chance)
+                more = deeds_ahead(grown.past, safe_line(grown.past))
+                self.assertTrue(all(more[hand][:len(safe[hand])] == safe[hand] for hand in hands))
+                counted += sum(map(len, safe.values()))
+        self.assertGreater(counted, 5000)
+
+    def test_what_is_not_would_be_lost_did_all_fall_now(self):
+        for past in small_pasts()[::3]:
+            line = safe_line(past)
+            left = deeds_ahead(past, slowly_left(past, sorted(past)))
+            for hand, number in points_of(past):
+                if number < line[hand]:
+                    self.assertGreaterEqual(len(left[hand]), len(slowly_row_left(past[hand], number + 1)))
+                else:
+                    self.assertLessEqual(len(left[hand]), len(slowly_row_left(past[hand], number)))
+
+    def test_all_of_those_must_keep_and_no_others(self):
+        for past in small_pasts()[::5]:
+            for hand, number in points_of(past):
+                if number < last_points(past)[hand]:
+                    told = must_keep(past, (hand, number))
+                    for some in [[]] + some_hands(past):
+                        kept = {one: row + [KEEP] * (one in some) for one, row in past.items()}
+                        due = safe_line(kept)[hand] > number
+                        self.assertIs(due, set(told) <= set(some), ascii((past, hand, number, some)))
+
+
+class WarilyTest(unittest.TestCase):
+    def test_every_point_stands_in_a_line_the_least_of_which_its_hand_knows(self):
+        counted = 0
+        for past in wary_pasts() + [past for past in small_pasts()[::2] if is_wary(past)]:
+            for point in points_of(past):
+                told = lines_with(past, dict([point]))
+                self.assertEqual(told[0], "lines")
+                self.assertEqual(numbers_of(past, point), told[1])
+                counted += 1
+        self.assertGreater(counted, 2000)
+
+    def test_what_a_hand_did_not_hear_of_changes_no_number(self):
+        for past in small_pasts()[::3] + wary_pasts()[::2]:
+            for point in points_of(past):
+                heard_of = slowly_heard_of(past, point)
+                known = {hand: [deed for at, deed in enumerate(row) if (hand, at) in heard_of] for hand, row in past.items()}
+                self.assertEqual(numbers_of(known, point), numbers_of(past, point), ascii((past, point)))
+
+    def test_a_point_is_lost_just_where_it_heard_of_the_last_part_of_a_hand_that_falls(self):
+        for past in wary_pasts():
+            ends = last_points(past)
+            for fallen in some_hands(past):
+                line = fall_line(past, fallen)
+                for hand, number in points_of(past):
+                    heard = numbers_of(past, (hand, number))
+                    self.assertIs(number > line[hand], any(heard[one] == ends[one] for one in fallen), ascii((past, fallen)))
 
 
 if __name__ == "__main__":

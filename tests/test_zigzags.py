@@ -6,8 +6,8 @@ import unittest
 
 from fallingback.errors import NoPast, NoPoint
 from fallingback.zigzags import is_zigzag, zigzag_between
-from support import (BROKEN, PAST, NoEqual, big_past, histories, points_of, raised, refilled, slowly_a_zigzag, staircase,
-                     things, whereabouts)
+from support import (BROKEN, NO_POINTS, PAST, NoEqual, big_past, histories, points_of, raised, refilled, slowly_a_zigzag,
+                     staircase, things, whereabouts)
 
 # bo tells 1 to cy ahead of hearing 0 from an, all in one part: no word comes from an to cy, a zigzag does.
 EARLIER = {
@@ -245,10 +245,7 @@ class RefusalsTest(unittest.TestCase):
                     self.assertIs(self.refusal(past, one, other), NoPast)
 
     def test_what_is_no_point(self):
-        bad = [("an", -1), ("an", 4), ("an", 10 ** 30), ("bo", 3), ("cy", 2), ("di", 2), ("ed", 0), ("", 0), ("an",), ("an", 0, 0),
-               ["an", 0], ("an", True), ("an", False), ("an", 0.0), ("an", 1.0), ("an", "0"), ("an", None), (0, "an"), {"an": 0},
-               (b"an", 0), (["an"], 0), ("an", [0]), (("an",), 0), (NoEqual(), 0), ("an", NoEqual()), "an", "a0", {"an", 0}]
-        for thing in things() + bad:
+        for thing in things() + NO_POINTS:
             with self.subTest(ascii(thing)):
                 self.assertIs(self.refusal(PAST, thing, ("an", 0)), NoPoint)
                 self.assertIs(self.refusal(PAST, ("an", 0), thing), NoPoint)
